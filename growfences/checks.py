@@ -1,0 +1,117 @@
+"""What the arguments of the package must be, and the errors if they are not."""
+
+from growfences.errors import InvalidFence, InvalidNumber, InvalidPoint, InvalidPoints, InvalidSide, InvalidSize
+from growfences.plane import is_outline
+
+LIMIT = 10 ** 30
+GREATEST_BOTTOM = 30
+MOST_CORNERS = 10
+MOST_POINTS = 20
+
+
+def is_integer(value):
+    """Whether a value is an integer; True and False are none."""
+    return isinstance(value, int) and not isinstance(value, bool)
+
+
+def is_between(value, least, greatest):
+    """Whether a value is an integer in a range, both ends included."""
+    return is_integer(value) and least <= value <= greatest
+
+
+def is_point(value):
+    """Whether a value is a tuple of two integers."""
+    return isinstance(value, tuple) and len(value) == 2 and is_integer(value[0]) and is_integer(value[1])
+
+
+def is_corner(value):
+    """Whether a value is a point within the range of corners."""
+    return is_point(value) and -LIMIT <= value[0] <= LIMIT and -LIMIT <= value[1] <= LIMIT
+
+
+def is_bottom(value):
+    """Whether a value can be the bottom of a fence."""
+    return is_between(value, 1, GREATEST_BOTTOM)
+
+
+def are_corners(value):
+    """Whether a value can be the list of the corners of a fence."""
+    if not isinstance(value, list) or not 1 <= len(value) <= MOST_CORNERS:
+        return False
+    if not all([is_corner(corner) for corner in value]):
+        return False
+    if len(value) == 1:
+        return True
+    if len(value) == 2:
+        return value[0] < value[1]
+    return is_outline(value)
+
+
+def side_total(corners):
+    """How many sides a fence with these corners has."""
+    if len(corners) == 1:
+        return 0
+    return len(corners)
+
+
+def are_open_sides(value, total):
+    """Whether a value can be the list of the open sides of a fence with this many sides."""
+    if not isinstance(value, list):
+        return False
+    least = 0
+    for side in value:
+        if not is_between(side, least, total - 1):
+            return False
+        least = side + 1
+    return True
+
+
+def check_bottom(value):
+    """Raise InvalidFence unless a value can be the bottom of a fence."""
+    if not is_bottom(value):
+        raise InvalidFence("bottom")
+
+
+def check_fence(value):
+    """Raise InvalidFence unless a value is a fence."""
+    if not isinstance(value, tuple) or len(value) != 3:
+        raise InvalidFence(None)
+    bottom, corners, sides = value
+    check_bottom(bottom)
+    if not are_corners(corners):
+        raise InvalidFence("corners")
+    if not are_open_sides(sides, side_total(corners)):
+        raise InvalidFence("sides")
+
+
+def check_points(value):
+    """Raise InvalidPoints unless a value is a list of points for a hull."""
+    if not isinstance(value, list) or not 1 <= len(value) <= MOST_POINTS:
+        raise InvalidPoints(None)
+    for index, point in enumerate(value):
+        if not is_corner(point):
+            raise InvalidPoints(index)
+
+
+def check_size(value):
+    """Raise InvalidSize unless a value is a size that can be passed."""
+    if not is_between(value, 1, LIMIT):
+        raise InvalidSize("a size is an integer from 1 to 10 ** 30")
+
+
+def check_side(value, corners):
+    """Raise InvalidSide unless a value is the number of a side of a fence with these corners."""
+    if not is_between(value, 0, side_total(corners) - 1):
+        raise InvalidSide("the fence has no such side")
+
+
+def check_point(value):
+    """Raise InvalidPoint unless a value is a tuple of two integers."""
+    if not is_point(value):
+        raise InvalidPoint("a point is a tuple of two integers")
+
+
+def check_row(value):
+    """Raise InvalidNumber unless a value is an integer."""
+    if not is_integer(value):
+        raise InvalidNumber("a row is an integer")

@@ -1,0 +1,58 @@
+"""The interface: each function stands in its file, with the arguments of the document."""
+
+import importlib
+import inspect
+import unittest
+
+INTERFACE = {
+    "fences": {
+        "is_fence": ["value"],
+        "are_same": ["fence", "other"],
+        "fence_of": ["bottom", "points"],
+        "lowest_fence": ["fence"],
+        "closed_fence": ["fence"],
+        "shut_fence": ["fence"],
+        "turned_fence": ["fence"],
+        "fence_kind": ["fence"],
+        "fence_area": ["fence"],
+    },
+    "counts": {
+        "stake_count": ["fence", "size"],
+        "side_count": ["fence", "side", "size"],
+        "row_count": ["fence", "size", "row"],
+        "below_count": ["fence", "size", "row"],
+        "holds_stake": ["fence", "size", "point"],
+    },
+    "places": {
+        "stake_rows": ["fence", "size"],
+        "row_stakes": ["fence", "size", "row"],
+        "nth_stake": ["fence", "size", "index"],
+        "stake_index": ["fence", "size", "point"],
+    },
+}
+
+
+class TestInterface(unittest.TestCase):
+    def test_functions(self):
+        for file, functions in INTERFACE.items():
+            module = importlib.import_module("growfences." + file)
+            for name, arguments in functions.items():
+                with self.subTest(file=file, name=name):
+                    function = getattr(module, name)
+                    self.assertTrue(inspect.isfunction(function))
+                    self.assertEqual(function.__module__, "growfences." + file)
+                    signature = inspect.signature(function)
+                    self.assertEqual(list(signature.parameters), arguments)
+                    for parameter in signature.parameters.values():
+                        self.assertIs(parameter.kind, inspect.Parameter.POSITIONAL_OR_KEYWORD)
+                        self.assertIs(parameter.default, inspect.Parameter.empty)
+
+    def test_error_classes_stand_in_their_file(self):
+        module = importlib.import_module("growfences.errors")
+        for name, value in vars(module).items():
+            if inspect.isclass(value):
+                self.assertEqual(value.__module__, "growfences.errors", name)
+
+
+if __name__ == "__main__":
+    unittest.main()

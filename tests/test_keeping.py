@@ -1,0 +1,94 @@
+"""[2]: arguments stay as they were, returned lists are new ones, equal calls give equal answers."""
+
+import copy
+import unittest
+
+from growfences import counts, fences, places
+
+FIELD = (4, [(-4, 0), (4, -4), (8, 0), (0, 8)], [0, 2])
+STRETCH = (2, [(0, 1), (2, 1)], [1])
+POINT = (6, [(3, 2)], [])
+POINTS = [(2, 2), (0, 0), (2, 0), (1, 1), (0, 2), (0, 0)]
+
+
+def calls():
+    """Functions with their arguments, made anew each time."""
+    made = [(fences.fence_of, (2, list(POINTS))), (fences.fence_of, (2, [(1, 1), (0, 0)])), (fences.fence_of, (1, [(5, 5)]))]
+    for fence in (FIELD, STRETCH, POINT):
+        for function in (
+            fences.is_fence, fences.lowest_fence, fences.closed_fence, fences.shut_fence, fences.turned_fence,
+            fences.fence_kind, fences.fence_area,
+        ):
+            made.append((function, (copy.deepcopy(fence),)))
+        made.append((fences.are_same, (copy.deepcopy(fence), copy.deepcopy(fence))))
+        for function in (counts.stake_count, places.stake_rows):
+            made.append((function, (copy.deepcopy(fence), 6)))
+        for function in (counts.row_count, counts.below_count, places.row_stakes):
+            made.append((function, (copy.deepcopy(fence), 6, 3)))
+        stake = places.nth_stake(fence, 6, 0)
+        made.append((counts.holds_stake, (copy.deepcopy(fence), 6, stake)))
+        made.append((places.stake_index, (copy.deepcopy(fence), 6, stake)))
+        made.append((places.nth_stake, (copy.deepcopy(fence), 6, 0)))
+    for fence in (FIELD, STRETCH):
+        made.append((counts.side_count, (copy.deepcopy(fence), 1, 6)))
+    return made
+
+
+def lists_in(value):
+    """All lists in a value, at any depth."""
+    if not isinstance(value, (list, tuple)):
+        return []
+    found = [value] if isinstance(value, list) else []
+    for item in value:
+        found.extend(lists_in(item))
+    return found
+
+
+class TestKeeping(unittest.TestCase):
+    def test_arguments_stay_as_they_were(self):
+        for function, arguments in calls():
+            before = copy.deepcopy(arguments)
+            function(*arguments)
+            self.assertEqual(arguments, before, function)
+
+    def test_equal_calls_give_equal_answers(self):
+        for one, two in zip(calls(), calls()):
+            answer = one[0](*one[1])
+            self.assertEqual(answer, one[0](*one[1]))
+            self.assertEqual(answer, two[0](*two[1]))
+            self.assertIs(answer.__class__, two[0](*two[1]).__class__)
+
+    def test_returned_lists_are_new(self):
+        for function, arguments in calls():
+            one, two = function(*arguments), function(*arguments)
+            known = lists_in(arguments) + lists_in(two)
+            for found in lists_in(one):
+                self.assertFalse(any(found is other for other in known), function)
+            self.assertEqual(len({id(found) for found in lists_in(one)}), len(lists_in(one)), function)
+
+    def test_changed_answers_and_arguments_have_no_effect(self):
+        for number, (function, arguments) in enumerate(calls()):
+            answer = function(*arguments)
+            before = copy.deepcopy(answer)
+            for found in lists_in(function(*arguments)):
+                found.append("changed")
+            self.assertEqual(function(*arguments), before, function)
+            for found in lists_in(arguments):
+                found.clear()
+            self.assertEqual(answer, before, function)
+            again = calls()[number]
+            self.assertEqual(again[0](*again[1]), before, function)
+
+    def test_answers_are_arguments(self):
+        for fence in (FIELD, STRETCH, POINT):
+            for make in (fences.lowest_fence, fences.closed_fence, fences.shut_fence, fences.turned_fence):
+                made = make(fence)
+                self.assertIs(fences.is_fence(made), True)
+                self.assertEqual([part.__class__ for part in made], [int, list, list])
+                self.assertEqual({corner.__class__ for corner in made[1]}, {tuple})
+                self.assertGreaterEqual(counts.stake_count(made, 12), 0)
+                self.assertEqual(fences.fence_of(made[0], made[1]), fences.closed_fence(made))
+
+
+if __name__ == "__main__":
+    unittest.main()
