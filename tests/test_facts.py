@@ -1,7 +1,9 @@
 """The facts behind [9], as far as the counts tell of them."""
 
+import itertools
 import math
 import unittest
+from fractions import Fraction
 
 from plain import led, some_fences, value_through
 
@@ -20,6 +22,32 @@ def count_at(fence, size):
     first = (size - 1) % bottom + 1
     places = [first, first + bottom, first + 2 * bottom]
     return value_through([(place, stake_count(fence, place)) for place in places], size)
+
+
+def least_width(corners):
+    """The least width of a field with the bottom 1 and corners near 0, over all directions that can have it."""
+    best = None
+    for a, b in itertools.product(range(-72, 73), range(73)):
+        if (a, b) != (0, 0):
+            values = [a * x + b * y for x, y in corners]
+            width = max(values) - min(values)
+            best = width if best is None else min(best, width)
+    return best
+
+
+def line_size(bottom, corners, side):
+    """The least size at which there is a stake on the line through a grown side."""
+    (x, y), (next_x, next_y) = corners[side], corners[(side + 1) % len(corners)]
+    part = math.gcd(next_x - x, next_y - y)
+    value = (next_x - x) // part * y - (next_y - y) // part * x
+    return next(size for size in range(1, 31) if size * value % bottom == 0)
+
+
+def linear_part(fence, bottom, first):
+    """The linear part of the row of a size, from the counts at three sizes with the same remainder."""
+    a, b, c = [stake_count(fence, first + step * bottom) for step in range(3)]
+    square = Fraction(c - 2 * b + a, 2 * bottom * bottom)
+    return Fraction(b - a, bottom) - square * (2 * first + bottom)
 
 
 class TestFacts(unittest.TestCase):
@@ -65,6 +93,34 @@ class TestFacts(unittest.TestCase):
             if fence_kind(fence) == "point":
                 for size in (*range(1, 3 * bottom + 1), FAR, FAR - FAR % bottom):
                     self.assertEqual(stake_count(fence, size), int(size % bottom == 0), (fence, size))
+
+    def test_four_a_wide_field_has_an_inner_stake(self):
+        fields = [fence for fence in some_fences(52, 40, 3, (1, 2, 3, 4, 5), (3, 3, 4, 6)) if len(fence[1]) > 2]
+        for fence in fields:
+            least = Fraction(least_width(fence[1]), fence[0])
+            first = math.ceil(Fraction(13, 6) / least)
+            for size in (first, first + 1, first + 2):
+                self.assertGreater(stake_count(shut_fence(fence), size), 0, (fence, size))
+
+    def test_five_counts_differ_soon_or_never(self):
+        fences = some_fences(53, 150, 2, (1, 2, 3), (1, 2, 3, 3, 4))
+        alike = 0
+        for one, two in itertools.combinations(fences, 2):
+            last = 3 * math.lcm(lowest_fence(one)[0], lowest_fence(two)[0])
+            if all(stake_count(one, size) == stake_count(two, size) for size in range(1, last + 1)):
+                alike += 1
+                for size in (*range(last + 1, last + 8), FAR - 1, FAR):
+                    self.assertEqual(stake_count(one, size), stake_count(two, size), (one, two, size))
+        self.assertGreater(alike, 20)
+
+    def test_six_the_linear_parts(self):
+        for fence in FENCES:
+            if fence_kind(fence) == "field":
+                bottom, corners, _ = lowest_fence(fence)
+                repeat = math.lcm(*[line_size(bottom, corners, side) for side in range(len(corners))])
+                for first in range(1, bottom + 1):
+                    linear = linear_part(fence, bottom, first)
+                    self.assertEqual(linear, linear_part(fence, bottom, first + repeat), (fence, first))
 
     def test_seven_moves_do_not_change_counts(self):
         for fence in FENCES:
