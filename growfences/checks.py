@@ -1,12 +1,17 @@
 """What the arguments of the package must be, and the errors if they are not."""
 
-from growfences.errors import InvalidFence, InvalidNumber, InvalidPoint, InvalidPoints, InvalidSide, InvalidSize
+from math import gcd
+
+from growfences.errors import (
+    InvalidCounts, InvalidFence, InvalidNumber, InvalidPoint, InvalidPoints, InvalidRule, InvalidSide, InvalidSize,
+)
 from growfences.plane import is_outline
 
 LIMIT = 10 ** 30
 GREATEST_BOTTOM = 30
 MOST_CORNERS = 10
 MOST_POINTS = 20
+MOST_ROWS = 30
 
 
 def is_integer(value):
@@ -66,6 +71,16 @@ def are_open_sides(value, total):
     return True
 
 
+def is_fraction(value):
+    """Whether a value is a fraction, in lowest terms."""
+    return is_point(value) and value[1] >= 1 and gcd(value[0], value[1]) == 1
+
+
+def is_rule_row(value):
+    """Whether a value is a tuple of three fractions."""
+    return isinstance(value, tuple) and len(value) == 3 and all([is_fraction(part) for part in value])
+
+
 def check_bottom(value):
     """Raise InvalidFence unless a value can be the bottom of a fence."""
     if not is_bottom(value):
@@ -115,3 +130,40 @@ def check_row(value):
     """Raise InvalidNumber unless a value is an integer."""
     if not is_integer(value):
         raise InvalidNumber("a row is an integer")
+
+
+def check_number(value):
+    """Raise InvalidNumber unless a value is an integer from 0 on."""
+    if not is_integer(value) or value < 0:
+        raise InvalidNumber("a number of stakes is an integer from 0 on")
+
+
+def check_closed(value):
+    """Raise InvalidFence unless a value is a closed fence."""
+    check_fence(value)
+    if value[2] != []:
+        raise InvalidFence("sides")
+
+
+def check_rule(value):
+    """Raise InvalidRule unless a value is a list of rows of three fractions."""
+    if not isinstance(value, list) or not 1 <= len(value) <= MOST_ROWS:
+        raise InvalidRule(None)
+    for index, row in enumerate(value):
+        if not is_rule_row(row):
+            raise InvalidRule(index)
+
+
+def check_rule_size(value):
+    """Raise InvalidSize unless a value is an integer, at which a rule has a value."""
+    if not is_integer(value):
+        raise InvalidSize("a rule has values at integers")
+
+
+def check_counts(value):
+    """Raise InvalidCounts unless a value is a list of integers, three for each row of a rule."""
+    if not isinstance(value, list) or not 3 <= len(value) <= 3 * MOST_ROWS or len(value) % 3 != 0:
+        raise InvalidCounts(None)
+    for index, number in enumerate(value):
+        if not is_integer(number):
+            raise InvalidCounts(index)

@@ -4,6 +4,7 @@ from math import gcd
 
 from growfences.checks import MOST_CORNERS, check_bottom, check_fence, check_points, side_total
 from growfences.errors import Impossible, InvalidFence
+from growfences.lattice import fraction_of
 from growfences.plane import convex_hull, next_corner
 
 
@@ -83,6 +84,4 @@ def fence_area(fence):
     for side, (x, y) in enumerate(corners):
         next_x, next_y = next_corner(corners, side)
         top += x * next_y - y * next_x
-    below = 2 * bottom * bottom
-    part = gcd(top, below)
-    return (top // part, below // part)
+    return fraction_of(top, 2 * bottom * bottom)

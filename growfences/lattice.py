@@ -1,4 +1,6 @@
-"""Exact sums and remainders over integers, in few steps for numbers of any size."""
+"""Exact sums, remainders and fractions over integers, in few steps for numbers of any size."""
+
+from math import gcd
 
 
 def least_from(top, bottom, beyond):
@@ -11,6 +13,12 @@ def least_from(top, bottom, beyond):
 def greatest_to(top, bottom, beyond):
     """The greatest integer that is at most top / bottom, or, if `beyond`, below it."""
     return -least_from(-top, bottom, beyond)
+
+
+def fraction_of(top, bottom):
+    """The fraction top / bottom without a common divisor, for a bottom above 0."""
+    part = gcd(top, bottom)
+    return (top // part, bottom // part)
 
 
 def inverse_of(number, modulus):

@@ -1,4 +1,4 @@
-"""The examples of the definitions and of Parts 1 to 3, as the document writes them."""
+"""The examples of the definitions and of Parts 1 to 7, as the document writes them."""
 
 import unittest
 
@@ -17,6 +17,18 @@ class TestExamples(unittest.TestCase):
 
     def test_part_3(self):
         self.assertEqual(check_file(self, "part_3.txt"), 5)
+
+    def test_part_4(self):
+        self.assertEqual(check_file(self, "part_4.txt"), 7)
+
+    def test_part_5(self):
+        self.assertEqual(check_file(self, "part_5.txt"), 4)
+
+    def test_part_6(self):
+        self.assertEqual(check_file(self, "part_6.txt"), 3)
+
+    def test_part_7(self):
+        self.assertEqual(check_file(self, "part_7.txt"), 5)
 
 
 if __name__ == "__main__":

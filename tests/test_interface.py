@@ -29,6 +29,34 @@ INTERFACE = {
         "nth_stake": ["fence", "size", "index"],
         "stake_index": ["fence", "size", "point"],
     },
+    "rules": {
+        "counting_rule": ["fence"],
+        "rule_through": ["counts"],
+        "rule_count": ["rule", "size"],
+        "rule_period": ["fence"],
+        "part_periods": ["fence"],
+        "side_sizes": ["fence"],
+        "series_row": ["fence"],
+    },
+    "sizes": {
+        "sizes_with": ["fence", "number"],
+        "first_size": ["fence", "number"],
+        "total_count": ["fence", "first", "last"],
+    },
+    "gaps": {
+        "size_step": ["fence"],
+        "last_empty": ["fence"],
+        "has_stakes": ["fence", "size"],
+        "stake_sizes": ["fence"],
+        "empty_sizes": ["fence"],
+    },
+    "compare": {
+        "are_alike": ["fence", "other"],
+        "parting_size": ["fence", "other"],
+        "alike_sizes": ["fence", "other"],
+        "first_fewer": ["fence", "other"],
+        "fewer_sizes": ["fence", "other"],
+    },
 }
 
 

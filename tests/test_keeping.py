@@ -3,7 +3,7 @@
 import copy
 import unittest
 
-from growfences import counts, fences, places
+from growfences import compare, counts, fences, gaps, places, rules, sizes
 
 FIELD = (4, [(-4, 0), (4, -4), (8, 0), (0, 8)], [0, 2])
 STRETCH = (2, [(0, 1), (2, 1)], [1])
@@ -18,9 +18,23 @@ def calls():
         for function in (
             fences.is_fence, fences.lowest_fence, fences.closed_fence, fences.shut_fence, fences.turned_fence,
             fences.fence_kind, fences.fence_area,
+            rules.counting_rule, rules.rule_period, rules.part_periods, rules.side_sizes,
+            gaps.size_step, gaps.stake_sizes, gaps.empty_sizes, gaps.last_empty,
         ):
             made.append((function, (copy.deepcopy(fence),)))
-        made.append((fences.are_same, (copy.deepcopy(fence), copy.deepcopy(fence))))
+        made.append((rules.series_row, (fences.closed_fence(fence),)))
+        for number in (0, 1, 7):
+            made.append((sizes.sizes_with, (copy.deepcopy(fence), number)))
+            made.append((sizes.first_size, (copy.deepcopy(fence), number)))
+        made.append((sizes.total_count, (copy.deepcopy(fence), 2, 9)))
+        made.append((gaps.has_stakes, (copy.deepcopy(fence), 6)))
+        made.append((rules.rule_count, (rules.counting_rule(fence), 7)))
+        for other in (FIELD, STRETCH, POINT):
+            for function in (
+                fences.are_same, compare.are_alike, compare.parting_size, compare.alike_sizes, compare.first_fewer,
+                compare.fewer_sizes,
+            ):
+                made.append((function, (copy.deepcopy(fence), copy.deepcopy(other))))
         for function in (counts.stake_count, places.stake_rows):
             made.append((function, (copy.deepcopy(fence), 6)))
         for function in (counts.row_count, counts.below_count, places.row_stakes):
@@ -29,6 +43,8 @@ def calls():
         made.append((counts.holds_stake, (copy.deepcopy(fence), 6, stake)))
         made.append((places.stake_index, (copy.deepcopy(fence), 6, stake)))
         made.append((places.nth_stake, (copy.deepcopy(fence), 6, 0)))
+    made.append((rules.rule_through, ([2, 4, 6, 9, 12, 16],)))
+    made.append((rules.rule_through, ([5] * 90,)))
     for fence in (FIELD, STRETCH):
         made.append((counts.side_count, (copy.deepcopy(fence), 1, 6)))
     return made
@@ -88,6 +104,27 @@ class TestKeeping(unittest.TestCase):
                 self.assertEqual({corner.__class__ for corner in made[1]}, {tuple})
                 self.assertGreaterEqual(counts.stake_count(made, 12), 0)
                 self.assertEqual(fences.fence_of(made[0], made[1]), fences.closed_fence(made))
+
+    def test_rules_and_sizes_are_arguments(self):
+        for fence in (FIELD, STRETCH, POINT):
+            rule = rules.counting_rule(fence)
+            self.assertEqual([rules.rule_count(rule, size) for size in (1, 12)], [
+                (counts.stake_count(fence, size), 1) for size in (1, 12)
+            ])
+            self.assertTrue(all(gaps.has_stakes(fence, size) for size in gaps.stake_sizes(fence)))
+            self.assertFalse(any(gaps.has_stakes(fence, size) for size in gaps.empty_sizes(fence)))
+            self.assertEqual(sizes.total_count(fence, sizes.first_size(fence, 1), 1), counts.stake_count(fence, 1))
+            row = rules.series_row(fences.closed_fence(fence))
+            through = rules.rule_through(row * 3)
+            self.assertEqual([rules.rule_count(through, size) for size in range(1, len(row) + 1)], [(part, 1) for part in row])
+
+    def test_one_object_at_both_arguments(self):
+        for fence in (FIELD, STRETCH, POINT):
+            before = copy.deepcopy(fence)
+            self.assertIs(compare.are_alike(fence, fence), True)
+            self.assertEqual(compare.fewer_sizes(fence, fence), [])
+            self.assertEqual(compare.alike_sizes(fence, fence), compare.alike_sizes(fence, copy.deepcopy(fence)))
+            self.assertEqual(fence, before)
 
 
 if __name__ == "__main__":

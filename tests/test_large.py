@@ -5,6 +5,7 @@ import random
 import unittest
 from fractions import Fraction
 
+from far_fences import FAR, RING, SHEARS
 from plain import count_by_rule, led, plain_hull, plain_sides, some_fences, turn
 
 from growfences.counts import below_count, holds_stake, row_count, side_count, stake_count
@@ -12,16 +13,7 @@ from growfences.errors import InvalidNumber
 from growfences.fences import is_fence
 from growfences.places import nth_stake, row_stakes, stake_index, stake_rows
 
-FAR = 10 ** 30
 SIZES = (FAR, FAR - 1, FAR - 2, FAR // 7, 3 ** 40, 10 ** 9 + 7)
-SHEARS = (
-    (1, 10 ** 28 + 3, 0, 1, 0, 0), (1, 0, 9 * 10 ** 27 + 1, 1, 5, -7), (0, 1, 1, 10 ** 28 - 9, 0, 0),
-    (10 ** 14 + 1, 10 ** 14, 1, 1, 3, 3), (-1, 0, 0, 1, 10 ** 27, -(10 ** 27)), (0, -1, 1, 0, 0, 0),
-)
-RING = [
-    (-FAR, -FAR // 3), (-FAR // 2, -FAR), (FAR // 2, -FAR + 1), (FAR, -FAR // 3 - 1), (FAR, FAR // 7),
-    (FAR - 5, FAR // 2), (FAR // 5, FAR), (-FAR // 3, FAR), (-FAR + 99, FAR // 3), (-FAR, FAR // 5),
-]
 
 
 def pick_count(corners, sides, size):

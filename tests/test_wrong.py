@@ -1,89 +1,27 @@
-"""[3], [10], [11] and [12]: wrong arguments, one or several at once, by position and by name."""
+"""[3] and [10] to [18]: wrong arguments, one or several at once, by position and by name."""
 
 import copy
 import itertools
 import unittest
-from fractions import Fraction
 
-from growfences import counts, errors, fences, places
+from wrong_values import (
+    BOTTOMS, CLOSED_FENCES, COUNTS, FAR, FENCES, FIELD, HUGE, INDEXES, NUMBERS, OPEN_FENCES, POINTS, ROWS, RULE_SIZES, RULES,
+    SIDES, SIZES, SQUARE, STAKES, wrong_points,
+)
 
-FAR = 10 ** 30
-FIELD = (2, [(0, 0), (2, 0), (0, 1)], [])
-HUGE = 10 ** 5000
-
-# Values of other kinds, which are wrong at each argument.
-ODD = [
-    None, True, False, 1.0, 0.5, float("nan"), float("inf"), Fraction(1), "", "1", "fence", b"1", {}, {1: 2}, {0}, object(),
-    int, len, [[]], ((),), [None], (None,), 1j, range(3), frozenset(), NotImplemented,
-]
-INTEGERS = [0, 1, -1, HUGE, -HUGE]
-
-NO_TUPLES_OF_THREE = [[], (), [2, FIELD[1], []], FIELD[:2], FIELD + ([],), (1, 2), "abc", {2: 1, 3: 2, 4: 5}, *INTEGERS]
-WRONG_BOTTOMS = [0, 31, -1, HUGE, -HUGE, [1], (1,), [], ()]
-SQUARE = [(0, 0), (1, 0), (1, 1), (0, 1)]
-WRONG_CORNERS = [
-    [], (), tuple(SQUARE), [[0, 0], [1, 0]], [(0, 0), (0, 0)], [(1, 0), (0, 0)], SQUARE[::-1], SQUARE[1:] + SQUARE[:1],
-    SQUARE[:2] + SQUARE[3:] + SQUARE[2:3], [(0, 0), (1, 0), (2, 0), (0, 1)], [(0, 0), (2, 0), (1, 0)], [(0,)],
-    [(0, 0, 0)], [(True, 0)], [(0, False)], [(0.0, 0)], [("0", 0)], [(FAR + 1, 0)], [(0, -FAR - 1)], [(HUGE, HUGE)],
-    [(0, 0), (2, 0), (1, 1), (2, 2), (0, 2)], [(x, x * x) for x in range(11)], [(0, 0)] * 11, 1, HUGE, "0,0",
-]
-WRONG_SIDES = [(), (0,), [3], [-1], [0, 0], [1, 0], [0, 1, 2, 3], [True], [False], [0.0], ["0"], [HUGE], [-HUGE], 0, HUGE]
-
-
-def wrong_fences():
-    """Pairs of a value and the error for it."""
-    pairs = [(value, errors.InvalidFence, {"part": None}) for value in ODD + NO_TUPLES_OF_THREE]
-    for parts, field, spot in ((WRONG_BOTTOMS, "bottom", 0), (WRONG_CORNERS, "corners", 1), (WRONG_SIDES, "sides", 2)):
-        for value in ODD + parts:
-            fence = FIELD[:spot] + (value,) + FIELD[spot + 1:]
-            pairs.append((fence, errors.InvalidFence, {"part": field}))
-    # Several parts at once: the first one is told.
-    pairs.append(((0, [], [9]), errors.InvalidFence, {"part": "bottom"}))
-    pairs.append(((True, SQUARE, []), errors.InvalidFence, {"part": "bottom"}))
-    pairs.append(((1, [], [9]), errors.InvalidFence, {"part": "corners"}))
-    pairs.append(((1, [(0, 0)], [0]), errors.InvalidFence, {"part": "sides"}))
-    pairs.append(((1, [(0, 0), (1, 0)], [0, 1, 2]), errors.InvalidFence, {"part": "sides"}))
-    pairs.append(([0, [], [9]], errors.InvalidFence, {"part": None}))
-    return pairs
-
-
-def plain_errors(values, error):
-    return [(value, error, {}) for value in values]
-
-
-def wrong_points():
-    """Values that are no list of points, with the index that is told."""
-    pairs = [(value, None) for value in ODD if value not in ([[]], [None])]
-    pairs += [([[]], 0), ([None], 0), ([], None), ((), None), (((0, 0),), None), ([(0, 0)] * 21, None), ([None] * 21, None)]
-    pairs += [(0, None), (HUGE, None), ({(0, 0): 1}, None), ({(0, 0)}, None)]
-    items = [*ODD, 1, HUGE, (0,), (0, 0, 0), [0, 0], (True, 0), (0, False), (0.0, 0), ("0", 0), (0, FAR + 1), (-FAR - 1, 0)]
-    for item in items:
-        pairs += [([item], 0), ([(0, 0), item], 1), ([(0, 0)] * 19 + [item], 19), ([(0, 0), item, item, (1, 1)], 1)]
-    return [(value, errors.InvalidPoints, {"index": index}) for value, index in pairs]
-
-
-SIZES = plain_errors([*ODD, 0, -1, FAR + 1, HUGE, -HUGE, [1], (1,), [], ()], errors.InvalidSize)
-SIDES = plain_errors([*ODD, -1, 3, HUGE, -HUGE, [0], (0,), [], ()], errors.InvalidSide)
-ROWS = plain_errors([*ODD, [1], (1,), [], ()], errors.InvalidNumber)
-NO_POINTS = [
-    *ODD, *INTEGERS, [0, 0], (0,), (0, 0, 0), (), [], (True, 0), (0, False), (0.0, 0), (0, 1.0), ("0", 0), (None, 0), (0, None),
-    ((0, 0), 0), "00", {0: 0, 1: 1},
-]
-POINTS = plain_errors(NO_POINTS, errors.InvalidPoint)
-STAKES = plain_errors([*NO_POINTS, (-1, 0), (0, 2), (2, 1), (HUGE, 0), (0, -HUGE)], errors.InvalidPoint)
-INDEXES = plain_errors([*ODD, -1, 6, HUGE, -HUGE, [0], (0,), [], ()], errors.InvalidNumber)
-FENCES = wrong_fences()
-BOTTOMS = [(value, errors.InvalidFence, {"part": "bottom"}) for value in ODD + WRONG_BOTTOMS]
+from growfences import compare, counts, errors, fences, gaps, places, rules, sizes
 
 # Each function with its arguments: their names, valid values, and wrong ones.
 FENCE, SIZE, ROW = ("fence", FIELD, FENCES), ("size", 3, SIZES), ("row", 0, ROWS)
+OTHER, NUMBER = ("other", FIELD, FENCES), ("number", 6, NUMBERS)
+RULE = [((1, 2), (-3, 2), (1, 1)), ((0, 1), (0, 1), (1, 30))]
 CALLS = [
     (fences.fence_of, [("bottom", 2, BOTTOMS), ("points", [(0, 0), (1, 1)], wrong_points())]),
     (fences.lowest_fence, [FENCE]),
     (fences.closed_fence, [FENCE]),
     (fences.shut_fence, [FENCE]),
     (fences.turned_fence, [FENCE]),
-    (fences.are_same, [FENCE, ("other", FIELD, FENCES)]),
+    (fences.are_same, [FENCE, OTHER]),
     (fences.fence_kind, [FENCE]),
     (fences.fence_area, [FENCE]),
     (counts.stake_count, [FENCE, SIZE]),
@@ -95,6 +33,26 @@ CALLS = [
     (places.stake_index, [FENCE, SIZE, ("point", (1, 1), STAKES)]),
     (places.stake_rows, [FENCE, SIZE]),
     (places.row_stakes, [FENCE, SIZE, ROW]),
+    (rules.counting_rule, [FENCE]),
+    (rules.rule_period, [FENCE]),
+    (rules.part_periods, [FENCE]),
+    (rules.rule_count, [("rule", RULE, RULES), ("size", -3, RULE_SIZES)]),
+    (rules.side_sizes, [FENCE]),
+    (rules.rule_through, [("counts", [2, 4, 6, 9, 12, 16], COUNTS)]),
+    (rules.series_row, [("fence", FIELD, CLOSED_FENCES)]),
+    (sizes.sizes_with, [FENCE, NUMBER]),
+    (sizes.first_size, [FENCE, NUMBER]),
+    (sizes.total_count, [FENCE, ("first", 2, SIZES), ("last", 5, SIZES)]),
+    (gaps.size_step, [FENCE]),
+    (gaps.has_stakes, [FENCE, SIZE]),
+    (gaps.stake_sizes, [FENCE]),
+    (gaps.empty_sizes, [FENCE]),
+    (gaps.last_empty, [FENCE]),
+    (compare.are_alike, [FENCE, OTHER]),
+    (compare.parting_size, [FENCE, OTHER]),
+    (compare.alike_sizes, [FENCE, OTHER]),
+    (compare.first_fewer, [FENCE, OTHER]),
+    (compare.fewer_sizes, [FENCE, OTHER]),
 ]
 
 
@@ -185,6 +143,35 @@ class TestExcludedValues(unittest.TestCase):
                             places.nth_stake(fence, size, index)
                 if total > 0:
                     self.assertIs(places.nth_stake(fence, size, total - 1).__class__, tuple)
+
+    def test_a_fence_that_is_not_closed(self):
+        for fence in OPEN_FENCES:
+            self.assertIs(fences.is_fence(fence), True)
+            self.assertEqual(rules.series_row(fence[:2] + ([],))[0], 1)
+            wrong = (((31,) + fence[1:], "bottom"), (fence[:1] + ([],) + fence[2:], "corners"), (list(fence), None))
+            for value, part in wrong:
+                with self.assertRaises(errors.InvalidFence) as caught:
+                    rules.series_row(value)
+                self.assertEqual(caught.exception.part, part)
+
+    def test_a_wrong_size_is_told_where_last_is_below_first(self):
+        self.assertEqual(sizes.total_count(FIELD, FAR, 1), 0)
+        for first, last in ((FAR, 0), (FAR + 1, 1), (1, 0), (0, 0), (FAR, -1), (2, True), (FAR + 1, FAR)):
+            with self.assertRaises(errors.InvalidSize):
+                sizes.total_count(FIELD, first, last)
+
+    def test_sizes_of_rules_have_no_ends(self):
+        for size in (0, -1, FAR + 1, -FAR, HUGE, -HUGE):
+            self.assertEqual(rules.rule_count([((0, 1), (1, 1), (0, 1))], size), (size, 1))
+
+    def test_rules_and_counts_at_their_ends(self):
+        row = ((HUGE, 1), (-1, HUGE), (0, 1))
+        self.assertEqual(rules.rule_count([row] * 30, 0), (0, 1))
+        self.assertEqual(rules.rule_count([((0, 1), (0, 1), (-1, 2))], 7), (-1, 2))
+        self.assertEqual(rules.rule_through([-HUGE, 0, HUGE])[0][1], (HUGE, 1))
+        self.assertEqual(len(rules.rule_through([0] * 89 + [1])), 30)
+        self.assertEqual(sizes.sizes_with((1, [(0, 0), (1, 0)], [0]), HUGE), [(HUGE, 1, 1)])
+        self.assertEqual(sizes.first_size((1, [(0, 0), (1, 0)], [0]), HUGE), HUGE)
 
     def test_impossible_comes_last(self):
         eleven = [(x, x * x) for x in range(11)]
