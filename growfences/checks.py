@@ -3,7 +3,8 @@
 from math import gcd
 
 from growfences.errors import (
-    InvalidCounts, InvalidFence, InvalidNumber, InvalidPoint, InvalidPoints, InvalidRule, InvalidSide, InvalidSize,
+    Impossible, InvalidCounts, InvalidDirection, InvalidFence, InvalidLine, InvalidNumber, InvalidPoint, InvalidPoints,
+    InvalidRule, InvalidSide, InvalidSize,
 )
 from growfences.plane import is_outline
 
@@ -167,3 +168,28 @@ def check_counts(value):
     for index, number in enumerate(value):
         if not is_integer(number):
             raise InvalidCounts(index)
+
+
+def check_field(value):
+    """Raise Impossible unless a fence is a field."""
+    if len(value[1]) < 3:
+        raise Impossible("the fence is no field")
+
+
+def check_direction(value):
+    """Raise InvalidDirection unless a value is a direction."""
+    if not is_point(value) or value == (0, 0):
+        raise InvalidDirection("a direction is a tuple of two integers, not both 0")
+
+
+def is_line(value):
+    """Whether a value is a line."""
+    if not isinstance(value, tuple) or len(value) != 3 or not all([is_integer(number) for number in value]):
+        return False
+    return value[:2] != (0, 0)
+
+
+def check_line(value):
+    """Raise InvalidLine unless a value is a line."""
+    if not is_line(value):
+        raise InvalidLine("a line is a tuple of three integers, the first two not both 0")

@@ -27,14 +27,19 @@ def fence_of(bottom, points):
     return (bottom, corners, [])
 
 
-def lowest_fence(fence):
-    """The same fence with its lowest bottom."""
-    check_fence(fence)
+def lowered_fence(fence):
+    """The same fence with its lowest bottom, whatever the limits of fences are."""
     bottom, corners, sides = fence
     part = bottom
     for x, y in corners:
         part = gcd(part, x, y)
     return (bottom // part, [(x // part, y // part) for x, y in corners], list(sides))
+
+
+def lowest_fence(fence):
+    """The same fence with its lowest bottom."""
+    check_fence(fence)
+    return lowered_fence(fence)
 
 
 def closed_fence(fence):

@@ -1,4 +1,4 @@
-"""The examples of the definitions and of Parts 1 to 7, as the document writes them."""
+"""The examples of the definitions and of Parts 1 to 11, as the document writes them."""
 
 import unittest
 
@@ -29,6 +29,18 @@ class TestExamples(unittest.TestCase):
 
     def test_part_7(self):
         self.assertEqual(check_file(self, "part_7.txt"), 5)
+
+    def test_part_8(self):
+        self.assertEqual(check_file(self, "part_8.txt"), 6)
+
+    def test_part_9(self):
+        self.assertEqual(check_file(self, "part_9.txt"), 6)
+
+    def test_part_10(self):
+        self.assertEqual(check_file(self, "part_10.txt"), 4)
+
+    def test_part_11(self):
+        self.assertEqual(check_file(self, "part_11.txt"), 4)
 
 
 if __name__ == "__main__":

@@ -57,6 +57,27 @@ INTERFACE = {
         "first_fewer": ["fence", "other"],
         "fewer_sizes": ["fence", "other"],
     },
+    "moves": {
+        "is_move": ["value"],
+        "moved_fence": ["fence", "move"],
+        "joined_move": ["move", "other"],
+        "inverse_move": ["move"],
+        "move_between": ["fence", "other"],
+        "own_moves": ["fence"],
+    },
+    "widths": {
+        "fence_width": ["fence", "direction"],
+        "line_number": ["fence", "size", "direction"],
+        "thin_directions": ["fence"],
+    },
+    "hulls": {
+        "stake_hull": ["fence", "size"],
+        "inner_fence": ["fence", "size"],
+    },
+    "cuts": {
+        "cut_fence": ["fence", "line"],
+        "cut_counts": ["fence", "line", "size"],
+    },
 }
 
 

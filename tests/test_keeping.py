@@ -3,11 +3,12 @@
 import copy
 import unittest
 
-from growfences import compare, counts, fences, gaps, places, rules, sizes
+from growfences import compare, counts, cuts, fences, gaps, hulls, moves, places, rules, sizes, widths
 
 FIELD = (4, [(-4, 0), (4, -4), (8, 0), (0, 8)], [0, 2])
 STRETCH = (2, [(0, 1), (2, 1)], [1])
 POINT = (6, [(3, 2)], [])
+SQUARE = (2, [(0, 0), (2, 0), (2, 2), (0, 2)], [])
 POINTS = [(2, 2), (0, 0), (2, 0), (1, 1), (0, 2), (0, 0)]
 
 
@@ -29,6 +30,13 @@ def calls():
         made.append((sizes.total_count, (copy.deepcopy(fence), 2, 9)))
         made.append((gaps.has_stakes, (copy.deepcopy(fence), 6)))
         made.append((rules.rule_count, (rules.counting_rule(fence), 7)))
+        made.append((moves.moved_fence, (copy.deepcopy(fence), (0, 1, 1, 0, 2, -2))))
+        made.append((moves.moved_fence, (copy.deepcopy(fence), (1, 0, 0, 1, 0, 0))))
+        made.append((widths.fence_width, (copy.deepcopy(fence), (2, -1))))
+        made.append((widths.line_number, (copy.deepcopy(fence), 3, (2, -1))))
+        for size in (1, 4, 6):
+            made.append((hulls.stake_hull, (copy.deepcopy(fence), size)))
+            made.append((hulls.inner_fence, (copy.deepcopy(fence), size)))
         for other in (FIELD, STRETCH, POINT):
             for function in (
                 fences.are_same, compare.are_alike, compare.parting_size, compare.alike_sizes, compare.first_fewer,
@@ -43,6 +51,16 @@ def calls():
         made.append((counts.holds_stake, (copy.deepcopy(fence), 6, stake)))
         made.append((places.stake_index, (copy.deepcopy(fence), 6, stake)))
         made.append((places.nth_stake, (copy.deepcopy(fence), 6, 0)))
+    for field in (FIELD, SQUARE):
+        made.append((widths.thin_directions, (copy.deepcopy(field),)))
+        made.append((moves.own_moves, (copy.deepcopy(field),)))
+        for other in (FIELD, SQUARE):
+            made.append((moves.move_between, (copy.deepcopy(field), copy.deepcopy(other))))
+        for line in ((1, 0, 0), (1, 0, -9), (1, 0, 9), (2, 2, 1)):
+            made.append((cuts.cut_fence, (fences.closed_fence(field), line)))
+            made.append((cuts.cut_counts, (fences.closed_fence(field), line, 5)))
+    made.append((cuts.cut_fence, (copy.deepcopy(SQUARE), (-1, 0, 0))))
+    made.append((moves.is_move, ([1, 0, 0, 1, 0, 0],)))
     made.append((rules.rule_through, ([2, 4, 6, 9, 12, 16],)))
     made.append((rules.rule_through, ([5] * 90,)))
     for fence in (FIELD, STRETCH):
@@ -118,7 +136,23 @@ class TestKeeping(unittest.TestCase):
             through = rules.rule_through(row * 3)
             self.assertEqual([rules.rule_count(through, size) for size in range(1, len(row) + 1)], [(part, 1) for part in row])
 
+    def test_moved_and_cut_fences_are_arguments(self):
+        made = [moves.moved_fence(fence, (2, 1, 1, 1, 3, 0)) for fence in (FIELD, STRETCH, POINT)]
+        made += [part for part in cuts.cut_fence(SQUARE, (1, 1, 1)) if part is not None]
+        made += [hulls.inner_fence(FIELD, 4), moves.moved_fence(SQUARE, moves.own_moves(SQUARE)[0])]
+        for fence in made:
+            self.assertIs(fences.is_fence(fence), True)
+            self.assertEqual({corner.__class__ for corner in fence[1]}, {tuple})
+            self.assertGreaterEqual(counts.stake_count(fence, 12), 0)
+            if fences.fence_kind(fence) == "field":
+                self.assertIs(moves.is_move(moves.move_between(fence, fence)), True)
+                for direction in widths.thin_directions(fence)[1]:
+                    self.assertEqual(widths.fence_width(fence, direction), widths.thin_directions(fence)[0])
+
     def test_one_object_at_both_arguments(self):
+        self.assertEqual(moves.move_between(SQUARE, SQUARE), moves.own_moves(SQUARE)[0])
+        move = (2, 1, 1, 1, 3, 0)
+        self.assertEqual(moves.joined_move(move, move), (5, 3, 3, 2, 9, 3))
         for fence in (FIELD, STRETCH, POINT):
             before = copy.deepcopy(fence)
             self.assertIs(compare.are_alike(fence, fence), True)

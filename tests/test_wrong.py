@@ -1,19 +1,21 @@
-"""[3] and [10] to [18]: wrong arguments, one or several at once, by position and by name."""
+"""[3] and [10] to [22]: wrong arguments, one or several at once, by position and by name."""
 
 import copy
 import itertools
 import unittest
 
 from wrong_values import (
-    BOTTOMS, CLOSED_FENCES, COUNTS, FAR, FENCES, FIELD, HUGE, INDEXES, NUMBERS, OPEN_FENCES, POINTS, ROWS, RULE_SIZES, RULES,
-    SIDES, SIZES, SQUARE, STAKES, wrong_points,
+    BOTTOMS, CLOSED_FENCES, COUNTS, DIRECTIONS, FAR, FENCES, FIELD, HUGE, INDEXES, LINES, MOVES, NUMBERS, OPEN_FENCES, POINTS,
+    ROWS, RULE_SIZES, RULES, SIDES, SIZES, SQUARE, STAKES, wrong_points,
 )
 
-from growfences import compare, counts, errors, fences, gaps, places, rules, sizes
+from growfences import compare, counts, cuts, errors, fences, gaps, hulls, moves, places, rules, sizes, widths
 
 # Each function with its arguments: their names, valid values, and wrong ones.
 FENCE, SIZE, ROW = ("fence", FIELD, FENCES), ("size", 3, SIZES), ("row", 0, ROWS)
 OTHER, NUMBER = ("other", FIELD, FENCES), ("number", 6, NUMBERS)
+MOVE, DIRECTION, LINE = ("move", (2, 1, 1, 1, -3, 0), MOVES), ("direction", (2, -4), DIRECTIONS), ("line", (2, 0, 1), LINES)
+CLOSED = ("fence", FIELD, CLOSED_FENCES)
 RULE = [((1, 2), (-3, 2), (1, 1)), ((0, 1), (0, 1), (1, 30))]
 CALLS = [
     (fences.fence_of, [("bottom", 2, BOTTOMS), ("points", [(0, 0), (1, 1)], wrong_points())]),
@@ -39,7 +41,7 @@ CALLS = [
     (rules.rule_count, [("rule", RULE, RULES), ("size", -3, RULE_SIZES)]),
     (rules.side_sizes, [FENCE]),
     (rules.rule_through, [("counts", [2, 4, 6, 9, 12, 16], COUNTS)]),
-    (rules.series_row, [("fence", FIELD, CLOSED_FENCES)]),
+    (rules.series_row, [CLOSED]),
     (sizes.sizes_with, [FENCE, NUMBER]),
     (sizes.first_size, [FENCE, NUMBER]),
     (sizes.total_count, [FENCE, ("first", 2, SIZES), ("last", 5, SIZES)]),
@@ -53,6 +55,18 @@ CALLS = [
     (compare.alike_sizes, [FENCE, OTHER]),
     (compare.first_fewer, [FENCE, OTHER]),
     (compare.fewer_sizes, [FENCE, OTHER]),
+    (moves.moved_fence, [FENCE, MOVE]),
+    (moves.joined_move, [MOVE, ("other", (0, 1, 1, 0, 5, 5), MOVES)]),
+    (moves.inverse_move, [MOVE]),
+    (moves.move_between, [FENCE, OTHER]),
+    (moves.own_moves, [FENCE]),
+    (widths.fence_width, [FENCE, DIRECTION]),
+    (widths.line_number, [FENCE, SIZE, DIRECTION]),
+    (widths.thin_directions, [FENCE]),
+    (hulls.stake_hull, [FENCE, SIZE]),
+    (hulls.inner_fence, [FENCE, SIZE]),
+    (cuts.cut_fence, [CLOSED, LINE]),
+    (cuts.cut_counts, [CLOSED, LINE, SIZE]),
 ]
 
 
@@ -102,6 +116,12 @@ class TestWrongInputs(unittest.TestCase):
             self.assertIs(fences.is_fence(value), False)
             self.assertIs(fences.is_fence(value=value), False)
         self.assertIs(fences.is_fence(value=FIELD), True)
+
+    def test_wrong_moves_are_no_moves(self):
+        for value, _, _ in MOVES:
+            self.assertIs(moves.is_move(value), False)
+            self.assertIs(moves.is_move(value=value), False)
+        self.assertIs(moves.is_move(value=MOVE[1]), True)
 
     def test_wrong_arguments_stay_as_they_were(self):
         for value in ((2, [(0, 0), (2, 0), (1, 0)], [0]), (2, [(0, 0), (2, 0), (0, 1)], [2, 1]), [2, [(0, 0)], []]):
@@ -172,6 +192,39 @@ class TestExcludedValues(unittest.TestCase):
         self.assertEqual(len(rules.rule_through([0] * 89 + [1])), 30)
         self.assertEqual(sizes.sizes_with((1, [(0, 0), (1, 0)], [0]), HUGE), [(HUGE, 1, 1)])
         self.assertEqual(sizes.first_size((1, [(0, 0), (1, 0)], [0]), HUGE), HUGE)
+
+    def test_impossible_comes_behind_wrong_arguments(self):
+        point, stretch, far = (1, [(0, 0)], []), (1, [(0, 0), (1, 0)], []), (1, [(FAR, 0)], [])
+        out, tall = (1, 0, 0, 1, 1, 0), (1, [(0, 0), (1, 0), (0, FAR)], [])
+        calls = (
+            (moves.moved_fence, (far, out), [("fence", FENCES), ("move", MOVES)]),
+            (moves.move_between, (point, stretch), [("fence", FENCES), ("other", FENCES)]),
+            (moves.own_moves, (stretch,), [("fence", FENCES)]),
+            (widths.thin_directions, (point,), [("fence", FENCES)]),
+            (hulls.stake_hull, (tall, 1), [("fence", FENCES), ("size", SIZES)]),
+            (hulls.inner_fence, (tall, FAR), [("fence", FENCES), ("size", SIZES)]),
+            (cuts.cut_fence, (stretch, (1, 0, 0)), [("fence", CLOSED_FENCES), ("line", LINES)]),
+            (cuts.cut_counts, (point, (1, 0, 0), 1), [("fence", CLOSED_FENCES), ("line", LINES), ("size", SIZES)]),
+        )
+        for function, values, wrong in calls:
+            with self.assertRaises(errors.Impossible) as caught:
+                function(*values)
+            self.assertIs(caught.exception.__class__, errors.Impossible)
+            for spot, (_, pairs) in enumerate(wrong):
+                for value, error, fields in pairs[::3]:
+                    given = values[:spot] + (value,) + values[spot + 1:]
+                    with self.assertRaises(error) as caught:
+                        function(*given)
+                    self.assertEqual(vars(caught.exception), fields)
+
+    def test_moves_directions_and_lines_without_ends(self):
+        self.assertIs(moves.is_move((HUGE, 1, -1, 0, HUGE, -HUGE)), True)
+        self.assertEqual(moves.inverse_move((1, HUGE, 0, 1, 0, 0)), (1, -HUGE, 0, 1, 0, 0))
+        self.assertEqual(widths.fence_width(FIELD, (HUGE, 0)), (HUGE, 1))
+        self.assertEqual(widths.line_number(FIELD, 2, (0, HUGE)), HUGE + 1)
+        self.assertEqual(cuts.cut_counts(FIELD, (1, 0, HUGE), 3), (6, 0))
+        self.assertEqual(cuts.cut_fence(FIELD, (0, -HUGE, HUGE)), (FIELD, None))
+        self.assertEqual(cuts.cut_fence(FIELD, (0, HUGE, -1)), (None, FIELD))
 
     def test_impossible_comes_last(self):
         eleven = [(x, x * x) for x in range(11)]

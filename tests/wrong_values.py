@@ -96,6 +96,30 @@ def wrong_counts():
     return pairs + wrong_items(items, 5, 90, errors.InvalidCounts)
 
 
+def wrong_spots(right, numbers):
+    """Tuples like a right one, with one of its numbers replaced by a value of another kind, and in other wholes."""
+    values = [right[:-1], right + (1,), list(right), (), [], (right,), [right], dict(enumerate(right)), right * 2, str(right)]
+    for spot in range(len(right)):
+        values += [right[:spot] + (part,) + right[spot + 1:] for part in numbers]
+    return values
+
+
+def wrong_moves():
+    """Values that are no move."""
+    parts = [value for value in ODD if not isinstance(value, (list, set, dict))] + [[1], (1,), "0"]
+    values = [*ODD, *INTEGERS, *wrong_spots((1, 0, 0, 1, 3, -2), parts), *wrong_spots((0, -1, 1, 7, 0, 0), parts[:6])]
+    values += [(0, 0, 0, 0, 0, 0), (2, 0, 0, 1, 0, 0), (1, 1, 1, 1, 5, 5), (1, 0, 0, 2, 0, 0), (2, 1, 1, 2, 0, 0), (3, 1, 1, 1, 0, 0)]
+    values += [(HUGE, 0, 0, 1, 0, 0), (HUGE, HUGE, HUGE, HUGE, 0, 0), (1, 0, 0, 0, 1, 1), (0, 2, 1, 0, 0, 0), "100100", (1, 0), range(6)]
+    return plain_errors(values, errors.InvalidMove)
+
+
+def wrong_lines():
+    """Values that are no line."""
+    parts = [value for value in ODD if not isinstance(value, (list, set, dict))] + [[1], (1,), "0"]
+    values = [*ODD, *INTEGERS, *wrong_spots((2, -1, 1), parts), (0, 0, 0), (0, 0, 1), (0, 0, -HUGE), (1, 0), (0, 1), "101"]
+    return plain_errors(values, errors.InvalidLine)
+
+
 SIZES = plain_errors([*ODD, 0, -1, FAR + 1, HUGE, -HUGE, [1], (1,), [], ()], errors.InvalidSize)
 SIDES = plain_errors([*ODD, -1, 3, HUGE, -HUGE, [0], (0,), [], ()], errors.InvalidSide)
 ROWS = plain_errors([*ODD, [1], (1,), [], ()], errors.InvalidNumber)
@@ -116,4 +140,7 @@ OPEN_FENCES = [
     (2, [(0, 0), (2, 0), (0, 1)], [0]), (2, [(0, 0), (2, 0), (0, 1)], [2]), (2, [(0, 0), (2, 0), (0, 1)], [0, 1, 2]),
     (30, [(0, 0), (FAR, 1)], [0]), (1, [(0, 0), (1, 0)], [1]), (1, [(0, 0), (1, 0)], [0, 1]), (4, SQUARE, [1, 2]),
 ]
+MOVES = wrong_moves()
+DIRECTIONS = plain_errors([*NO_POINTS, (0, 0), ((1, 0), (0, 1)), (1, 0, 0), [1, 0], {(1, 0)}], errors.InvalidDirection)
+LINES = wrong_lines()
 CLOSED_FENCES = FENCES + [(value, errors.InvalidFence, {"part": "sides"}) for value in OPEN_FENCES]
