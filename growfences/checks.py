@@ -3,8 +3,8 @@
 from math import gcd
 
 from growfences.errors import (
-    Impossible, InvalidCounts, InvalidDirection, InvalidFence, InvalidLine, InvalidNumber, InvalidPoint, InvalidPoints,
-    InvalidRule, InvalidSide, InvalidSize,
+    Impossible, InvalidCounts, InvalidDirection, InvalidFence, InvalidLine, InvalidLooks, InvalidNumber, InvalidPoint,
+    InvalidPoints, InvalidRule, InvalidSide, InvalidSize,
 )
 from growfences.plane import is_outline
 
@@ -13,6 +13,9 @@ GREATEST_BOTTOM = 30
 MOST_CORNERS = 10
 MOST_POINTS = 20
 MOST_ROWS = 30
+GREATEST_SEEN_BOTTOM = 12
+GREATEST_SEEN_SIZE = 60
+MOST_LOOKS = 12
 
 
 def is_integer(value):
@@ -193,3 +196,31 @@ def check_line(value):
     """Raise InvalidLine unless a value is a line."""
     if not is_line(value):
         raise InvalidLine("a line is a tuple of three integers, the first two not both 0")
+
+
+def check_seen_bottom(value):
+    """Raise InvalidNumber unless a value can be the bottom of a field that is seen."""
+    if not is_between(value, 1, GREATEST_SEEN_BOTTOM):
+        raise InvalidNumber("the bottom of what is seen is an integer from 1 to 12")
+
+
+def is_look(value):
+    """Whether a value is a tuple of a size that can be seen and a count."""
+    if not is_point(value):
+        return False
+    return 1 <= value[0] <= GREATEST_SEEN_SIZE and value[1] >= 0
+
+
+def check_looks(value):
+    """Raise InvalidLooks unless a value is a list of looks."""
+    if not isinstance(value, list) or len(value) > MOST_LOOKS:
+        raise InvalidLooks(None)
+    for index, look in enumerate(value):
+        if not is_look(look):
+            raise InvalidLooks(index)
+
+
+def check_last(value):
+    """Raise InvalidNumber unless a value is a size that can be seen."""
+    if not is_between(value, 1, GREATEST_SEEN_SIZE):
+        raise InvalidNumber("the last size is an integer from 1 to 60")

@@ -23,12 +23,8 @@ def crossing_point(bottom, tail, head):
     """The point of the level 0 on a side, for both ends as (corner, level); as a tuple (x, y, bottom)."""
     (x, y), level = tail
     (head_x, head_y), head_level = head
-    sign = 1 if head_level > level else -1
-    return (
-        sign * (x * head_level - head_x * level),
-        sign * (y * head_level - head_y * level),
-        sign * (head_level - level) * bottom,
-    )
+    # All three numbers can be below 0 at once, which makes no difference to the point.
+    return (x * head_level - head_x * level, y * head_level - head_y * level, (head_level - level) * bottom)
 
 
 def outline_of(fence, levels):

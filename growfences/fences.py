@@ -27,6 +27,12 @@ def fence_of(bottom, points):
     return (bottom, corners, [])
 
 
+def copied_fence(fence):
+    """An equal fence with lists of its own."""
+    bottom, corners, sides = fence
+    return (bottom, list(corners), list(sides))
+
+
 def lowered_fence(fence):
     """The same fence with its lowest bottom, whatever the limits of fences are."""
     bottom, corners, sides = fence

@@ -117,8 +117,6 @@ def moves_onto(fence, other):
     """All moves that lead a field onto another one, ascending."""
     # Moves keep the lowest bottom, and over it equal points mean equal tuples.
     lowest, target = lowest_fence(fence), lowest_fence(other)
-    if lowest[0] != target[0] or len(lowest[1]) != len(target[1]):
-        return []
     moves = [move_through(lowest[0], lowest[1], spots) for spots in rounds_of(target[1])]
     return sorted([move for move in moves if move is not None and led_fence(lowest, move) == target])
 

@@ -354,8 +354,8 @@ class TestCutCounts(unittest.TestCase):
             self.assertEqual(cut_counts(there, (-a, -b, c), FAR), (low, high))
 
     def test_only_closed_fields(self):
-        line = (1, 0, 0)
-        for fence in ((1, [(0, 0)], []), (1, [(0, 0), (1, 0)], [])):
+        lines = ((1, 0, 0), (1, 0, 5), (1, 0, -5), (0, 1, 0), (0, -1, 0), (2, 0, 1))
+        for fence, line in itertools.product(((1, [(0, 0)], []), (1, [(0, 0), (1, 0)], [])), lines):
             with self.assertRaises(Impossible):
                 cut_fence(fence, line)
             with self.assertRaises(Impossible):

@@ -1,4 +1,4 @@
-"""The examples of the definitions and of Parts 1 to 11, as the document writes them."""
+"""The examples of the definitions and of Parts 1 to 15, as the document writes them."""
 
 import unittest
 
@@ -41,6 +41,18 @@ class TestExamples(unittest.TestCase):
 
     def test_part_11(self):
         self.assertEqual(check_file(self, "part_11.txt"), 4)
+
+    def test_part_12(self):
+        self.assertEqual(check_file(self, "part_12.txt"), 7)
+
+    def test_part_13(self):
+        self.assertEqual(check_file(self, "part_13.txt"), 10)
+
+    def test_part_14(self):
+        self.assertEqual(check_file(self, "part_14.txt"), 8)
+
+    def test_part_15(self):
+        self.assertEqual(check_file(self, "part_15.txt"), 7)
 
 
 if __name__ == "__main__":

@@ -78,6 +78,36 @@ INTERFACE = {
         "cut_fence": ["fence", "line"],
         "cut_counts": ["fence", "line", "size"],
     },
+    "seen": {
+        "fits_count": ["bottom", "looks"],
+        "nth_fit": ["bottom", "looks", "index"],
+        "clash_index": ["bottom", "looks"],
+        "sure_counts": ["bottom", "looks", "last"],
+        "telling_sizes": ["bottom", "looks"],
+    },
+    "texts": {
+        "format_fence": ["fence"],
+        "format_rule": ["rule"],
+        "format_move": ["move"],
+        "parse_fence": ["text"],
+        "parse_rule": ["text"],
+        "parse_move": ["text"],
+    },
+}
+CLASSES = {
+    "live": ("LiveFarm", {
+        "put_fence": ["name", "fence"],
+        "take_fence": ["name"],
+        "set_size": ["size"],
+        "move_fence": ["name", "move"],
+        "undo": [],
+        "fence_named": ["name"],
+        "count_named": ["name"],
+        "fork": [],
+        "__len__": [],
+        "__eq__": ["other"],
+    }, ["size", "names", "total", "log"]),
+    "console": ("Console", {"execute": ["command"]}, []),
 }
 
 
@@ -95,6 +125,21 @@ class TestInterface(unittest.TestCase):
                     for parameter in signature.parameters.values():
                         self.assertIs(parameter.kind, inspect.Parameter.POSITIONAL_OR_KEYWORD)
                         self.assertIs(parameter.default, inspect.Parameter.empty)
+
+    def test_classes(self):
+        for file, (name, methods, properties) in CLASSES.items():
+            kind = getattr(importlib.import_module("growfences." + file), name)
+            self.assertEqual((kind.__module__, kind.__name__), ("growfences." + file, name))
+            self.assertEqual(list(inspect.signature(kind).parameters), [])
+            for method, arguments in methods.items():
+                self.assertTrue(inspect.isfunction(vars(kind)[method]), method)
+                signature = inspect.signature(vars(kind)[method])
+                self.assertEqual(list(signature.parameters), ["self"] + arguments)
+                for parameter in signature.parameters.values():
+                    self.assertIs(parameter.kind, inspect.Parameter.POSITIONAL_OR_KEYWORD)
+                    self.assertIs(parameter.default, inspect.Parameter.empty)
+            for word in properties:
+                self.assertIsInstance(vars(kind)[word], property)
 
     def test_error_classes_stand_in_their_file(self):
         module = importlib.import_module("growfences.errors")

@@ -3,7 +3,7 @@
 import copy
 import unittest
 
-from growfences import compare, counts, cuts, fences, gaps, hulls, moves, places, rules, sizes, widths
+from growfences import compare, counts, cuts, fences, gaps, hulls, moves, places, rules, seen, sizes, texts, widths
 
 FIELD = (4, [(-4, 0), (4, -4), (8, 0), (0, 8)], [0, 2])
 STRETCH = (2, [(0, 1), (2, 1)], [1])
@@ -60,6 +60,17 @@ def calls():
             made.append((cuts.cut_fence, (fences.closed_fence(field), line)))
             made.append((cuts.cut_counts, (fences.closed_fence(field), line, 5)))
     made.append((cuts.cut_fence, (copy.deepcopy(SQUARE), (-1, 0, 0))))
+    for bottom, looks in ((1, [(1, 6)]), (2, []), (3, [(3, 4), (1, 1)]), (12, [(12, 6), (60, 66)])):
+        for function in (seen.fits_count, seen.clash_index, seen.telling_sizes):
+            made.append((function, (bottom, list(looks))))
+        made.append((seen.nth_fit, (bottom, list(looks), 0)))
+        made.append((seen.sure_counts, (bottom, list(looks), 5)))
+    for fence in (FIELD, STRETCH, POINT):
+        made.append((texts.format_fence, (copy.deepcopy(fence),)))
+        made.append((texts.format_rule, (rules.counting_rule(fence),)))
+        made.append((texts.parse_fence, (texts.format_fence(fence),)))
+        made.append((texts.parse_rule, (texts.format_rule(rules.counting_rule(fence)),)))
+    made.append((texts.parse_move, ("0 1 1 0 2 -2",)))
     made.append((moves.is_move, ([1, 0, 0, 1, 0, 0],)))
     made.append((rules.rule_through, ([2, 4, 6, 9, 12, 16],)))
     made.append((rules.rule_through, ([5] * 90,)))

@@ -1,21 +1,22 @@
-"""[3] and [10] to [22]: wrong arguments, one or several at once, by position and by name."""
+"""[3], [10] to [24], [28] and [29]: wrong arguments, one or several at once, by position and by name."""
 
 import copy
 import itertools
 import unittest
 
 from wrong_values import (
-    BOTTOMS, CLOSED_FENCES, COUNTS, DIRECTIONS, FAR, FENCES, FIELD, HUGE, INDEXES, LINES, MOVES, NUMBERS, OPEN_FENCES, POINTS,
-    ROWS, RULE_SIZES, RULES, SIDES, SIZES, SQUARE, STAKES, wrong_points,
+    BOTTOMS, CLOSED_FENCES, COUNTS, DIRECTIONS, FAR, FENCES, FIELD, FITS, HUGE, INDEXES, LASTS, LINES, LOOKS, MOVES, NUMBERS,
+    OPEN_FENCES, POINTS, ROWS, RULE_SIZES, RULES, SEEN_BOTTOMS, SIDES, SIZES, SQUARE, STAKES, TEXTS, wrong_points,
 )
 
-from growfences import compare, counts, cuts, errors, fences, gaps, hulls, moves, places, rules, sizes, widths
+from growfences import compare, counts, cuts, errors, fences, gaps, hulls, moves, places, rules, seen, sizes, texts, widths
 
 # Each function with its arguments: their names, valid values, and wrong ones.
 FENCE, SIZE, ROW = ("fence", FIELD, FENCES), ("size", 3, SIZES), ("row", 0, ROWS)
 OTHER, NUMBER = ("other", FIELD, FENCES), ("number", 6, NUMBERS)
 MOVE, DIRECTION, LINE = ("move", (2, 1, 1, 1, -3, 0), MOVES), ("direction", (2, -4), DIRECTIONS), ("line", (2, 0, 1), LINES)
 CLOSED = ("fence", FIELD, CLOSED_FENCES)
+BOTTOM, SEEN = ("bottom", 1, SEEN_BOTTOMS), ("looks", [(1, 6)], LOOKS)
 RULE = [((1, 2), (-3, 2), (1, 1)), ((0, 1), (0, 1), (1, 30))]
 CALLS = [
     (fences.fence_of, [("bottom", 2, BOTTOMS), ("points", [(0, 0), (1, 1)], wrong_points())]),
@@ -67,6 +68,17 @@ CALLS = [
     (hulls.inner_fence, [FENCE, SIZE]),
     (cuts.cut_fence, [CLOSED, LINE]),
     (cuts.cut_counts, [CLOSED, LINE, SIZE]),
+    (seen.fits_count, [BOTTOM, SEEN]),
+    (seen.nth_fit, [BOTTOM, SEEN, ("index", 3, FITS)]),
+    (seen.clash_index, [BOTTOM, SEEN]),
+    (seen.sure_counts, [BOTTOM, SEEN, ("last", 3, LASTS)]),
+    (seen.telling_sizes, [BOTTOM, SEEN]),
+    (texts.format_fence, [FENCE]),
+    (texts.format_rule, [("rule", RULE, RULES)]),
+    (texts.format_move, [MOVE]),
+    (texts.parse_fence, [("text", "2: 0,0 2,0 0,1 / 0", TEXTS)]),
+    (texts.parse_rule, [("text", "1/2 -3/2 1", TEXTS)]),
+    (texts.parse_move, [("text", "0 1 1 0 0 0", TEXTS)]),
 ]
 
 
@@ -205,6 +217,8 @@ class TestExcludedValues(unittest.TestCase):
             (hulls.inner_fence, (tall, FAR), [("fence", FENCES), ("size", SIZES)]),
             (cuts.cut_fence, (stretch, (1, 0, 0)), [("fence", CLOSED_FENCES), ("line", LINES)]),
             (cuts.cut_counts, (point, (1, 0, 0), 1), [("fence", CLOSED_FENCES), ("line", LINES), ("size", SIZES)]),
+            (seen.sure_counts, (1, [(1, 9)], 3), [("bottom", SEEN_BOTTOMS), ("looks", LOOKS), ("last", LASTS)]),
+            (seen.telling_sizes, (1, [(1, 9)]), [("bottom", SEEN_BOTTOMS), ("looks", LOOKS)]),
         )
         for function, values, wrong in calls:
             with self.assertRaises(errors.Impossible) as caught:
@@ -216,6 +230,14 @@ class TestExcludedValues(unittest.TestCase):
                     with self.assertRaises(error) as caught:
                         function(*given)
                     self.assertEqual(vars(caught.exception), fields)
+
+    def test_no_index_where_nothing_fits(self):
+        for index in (0, 1, -1, HUGE):
+            with self.assertRaises(errors.InvalidNumber):
+                seen.nth_fit(1, [(1, 9)], index)
+        with self.assertRaises(errors.InvalidNumber):
+            seen.nth_fit(12, [], 76)
+        self.assertEqual(seen.nth_fit(12, [], 75)[0], 12)
 
     def test_moves_directions_and_lines_without_ends(self):
         self.assertIs(moves.is_move((HUGE, 1, -1, 0, HUGE, -HUGE)), True)

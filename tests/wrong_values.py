@@ -120,6 +120,18 @@ def wrong_lines():
     return plain_errors(values, errors.InvalidLine)
 
 
+def wrong_looks():
+    """Values that are no looks, with the index that is told."""
+    wholes = [value for value in ODD if value not in ([[]], [None])]
+    wholes += [(), ((1, 6),), (1, 6), {(1, 6)}, {1: 6}, 0, HUGE, [(1, 6)] * 13, [None] * 13, "16"]
+    pairs = [(value, errors.InvalidLooks, {"index": None}) for value in wholes]
+    items = [
+        *ODD, 1, HUGE, [1, 6], (), (1,), (1, 6, 0), (0, 6), (-1, 6), (61, 6), (HUGE, 6), (1, -1), (60, -HUGE), (True, 6), (1, True),
+        (1, False), (1.0, 6), (1, 6.0), ("1", 6), (1, "6"), (None, 6), (1, None), ((1, 6), 6), "16", {1: 6, 2: 15},
+    ]
+    return pairs + wrong_items(items, (1, 6), 12, errors.InvalidLooks)
+
+
 SIZES = plain_errors([*ODD, 0, -1, FAR + 1, HUGE, -HUGE, [1], (1,), [], ()], errors.InvalidSize)
 SIDES = plain_errors([*ODD, -1, 3, HUGE, -HUGE, [0], (0,), [], ()], errors.InvalidSide)
 ROWS = plain_errors([*ODD, [1], (1,), [], ()], errors.InvalidNumber)
@@ -143,4 +155,12 @@ OPEN_FENCES = [
 MOVES = wrong_moves()
 DIRECTIONS = plain_errors([*NO_POINTS, (0, 0), ((1, 0), (0, 1)), (1, 0, 0), [1, 0], {(1, 0)}], errors.InvalidDirection)
 LINES = wrong_lines()
+SEEN_BOTTOMS = plain_errors([*ODD, 0, 13, -1, 30, HUGE, -HUGE, [1], (1,), [], ()], errors.InvalidNumber)
+LOOKS = wrong_looks()
+FITS = plain_errors([*ODD, -1, 4, 5, HUGE, -HUGE, [0], (0,), [], ()], errors.InvalidNumber)
+LASTS = plain_errors([*ODD, 0, 61, -1, HUGE, -HUGE, [1], (1,), [], ()], errors.InvalidNumber)
+TEXTS = [
+    (value, errors.InvalidSyntax, {"word": None})
+    for value in [*ODD, *INTEGERS, [], (), ["1"], ("1", "0"), b"1: 0,0"] if not isinstance(value, str)
+]
 CLOSED_FENCES = FENCES + [(value, errors.InvalidFence, {"part": "sides"}) for value in OPEN_FENCES]
