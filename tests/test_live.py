@@ -7,6 +7,7 @@ import unittest
 from far_fences import FAR, RING
 from plain import led, plain_stakes, some_fences
 from plain_rules import TEN
+from test_keeping import lists_in
 from wrong_values import FENCES, HUGE, MOVES, ODD, SIZES
 
 from growfences import errors
@@ -46,15 +47,6 @@ def told(farm):
         farm.size, names, farm.total, farm.log, len(farm), [farm.fence_named(name) for name in names],
         [farm.count_named(name) for name in names],
     )
-
-
-def lists_in(value):
-    if not isinstance(value, (list, tuple)):
-        return []
-    found = [value] if isinstance(value, list) else []
-    for item in value:
-        found.extend(lists_in(item))
-    return found
 
 
 def some_call(source, farm, sizes=(1, 2, 3, 4, 7)):

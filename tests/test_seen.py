@@ -218,8 +218,9 @@ class TestSureCounts(unittest.TestCase):
 
 class TestTellingSizes(unittest.TestCase):
     def test_against_all_lists_of_sizes(self):
-        for bottom in (1, 2, 3, 4, 5, 6, 9):
+        for bottom in range(1, 13):
             self.assertEqual(telling_sizes(bottom, []), plain_telling(bottom, []), bottom)
+        self.assertEqual(telling_sizes(8, []), [1, 5, 6, 7, 12])
         answers = []
         for bottom, looks in some_looks(123, 120):
             if not plain_fits(bottom, looks):
